@@ -1,0 +1,1 @@
+"""Oldletters: workers that fall and begin anew, and letters of any age."""
