@@ -4,6 +4,11 @@ from oldletters.errors import NoPlace
 from oldletters.forms import is_index
 
 
+def full_lots(many):
+    """Return the lots of all letters; many has the number of letters of each worker."""
+    return tuple([tuple(range(letters)) for letters in many])
+
+
 def results_of(code, lots):
     """Return the ascending list of the states to which a step by the lots comes."""
     states = set()

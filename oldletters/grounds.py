@@ -1,7 +1,8 @@
 """By which lots a code comes to a state [30]."""
 
 from oldletters.choices import all_choices, all_subsets
-from oldletters.codes import asked_by, results_of, traces_of
+from oldletters.codes import asked_by, full_lots, results_of, traces_of
+from oldletters.nets import with_member
 
 
 class SureStates:
@@ -28,16 +29,11 @@ class SureStates:
             return results_of(self.code, entries)
         # More letters come to no fewer states, so that lots with one letter in an open entry decide.
         worker = entries.index(())
-        states = self.sure(with_entry(entries, worker, (0,)))
+        states = self.sure(with_member(entries, worker, (0,)))
         for letter in range(1, self.many[worker]):
-            more = self.sure(with_entry(entries, worker, (letter,)))
+            more = self.sure(with_member(entries, worker, (letter,)))
             states = [state for state in states if state in more]
         return states
-
-
-def with_entry(entries, worker, entry):
-    """Return the entries with another one for this worker."""
-    return entries[:worker] + (entry,) + entries[worker + 1:]
 
 
 def given_entries(many, own, asked):
@@ -53,9 +49,8 @@ def given_entries(many, own, asked):
     return tuple(entries)
 
 
-def free_letters(many, own, asked):
-    """Return for each worker the list of its letters that some lots have and some have not, if it is asked."""
-    given = given_entries(many, own, asked)
+def free_letters(many, given, asked):
+    """Return for each worker the list of its letters that are not given, if it is asked."""
     return [[letter for letter in range(letters) if worker in asked and letter not in given[worker]]
             for worker, letters in enumerate(many)]
 
@@ -64,14 +59,14 @@ def without_letter(entries, pair):
     """Return the entries without the letter of a tuple (worker, letter)."""
     worker, letter = pair
     entry = tuple([one for one in entries[worker] if one != letter])
-    return with_entry(entries, worker, entry)
+    return with_member(entries, worker, entry)
 
 
 def grounds_of(code, many, own):
     """Return a dict: for each state to which the code comes by some lots of many and own its least sure grounds."""
     asked = asked_by(code)
     given = given_entries(many, own, asked)
-    free = free_letters(many, own, asked)
+    free = free_letters(many, given, asked)
     table = SureStates(code, many)
     rows = [all_subsets(letters) for letters in free]
     found = {state: [] for state in results_of(code, full_lots(many))}
@@ -85,11 +80,6 @@ def grounds_of(code, many, own):
     return {state: sorted(found[state]) for state in found}
 
 
-def full_lots(many):
-    """Return the lots of all letters."""
-    return tuple([tuple(range(letters)) for letters in many])
-
-
 def lots_with(pairs, many, own, asked):
     """Return the list of least lots of many and own with the letters of the pairs, one for each choice of the
     letters of the workers in asked that have none else."""
@@ -98,8 +88,7 @@ def lots_with(pairs, many, own, asked):
     for worker, entry in enumerate(given):
         told = [letter for one, letter in pairs if one == worker]
         entries.append(tuple(sorted(set(list(entry) + told))))
-    rows = [[entry] if entry else [(letter,) for letter in range(many[worker])]
-            for worker, entry in enumerate(entries)]
+    rows = [[one] if one else [(letter,) for letter in range(letters)] for one, letters in zip(entries, many)]
     return all_choices(rows)
 
 

@@ -1,6 +1,6 @@
 """What a net consists of, and nets that are made of others [35]."""
 
-from oldletters.codes import asked_by, renumbered
+from oldletters.codes import asked_by, full_lots, renumbered
 from oldletters.errors import IsAsked, IsSteady, Last, NoLetter, NoState, NoWorker
 from oldletters.forms import is_index
 
@@ -55,7 +55,7 @@ def all_states(net):
 
 def all_lots(net):
     """Return the lots of all letters."""
-    return tuple([tuple(range(letters)) for letters, _, _ in net[0]])
+    return full_lots([letters for letters, _, _ in net[0]])
 
 
 def shown_lots(net, box):

@@ -1,7 +1,7 @@
 """One answer for several gets of one worker [31]."""
 
 from oldletters.choices import all_subsets, least_subsets
-from oldletters.codes import parts_of, results_of
+from oldletters.codes import full_lots, parts_of, results_of
 from oldletters.errors import NoPlace, TooMany
 
 MOST_REPEATS = 6
@@ -52,7 +52,7 @@ def sharings_of(code):
 def least_sharings(code, many, unwanted):
     """Return the ascending list of the least sharings that never come to an unwanted state; raise TooMany."""
     repeats = few_repeats(code)
-    lots = tuple([tuple(range(letters)) for letters in many])
+    lots = full_lots(many)
     return least_subsets(repeats, lambda sharing: comes_to_none(shared_code(code, sharing), lots, unwanted))
 
 

@@ -76,7 +76,7 @@ def growth_of(net):
     check_no_steady(net)
     rows = [(worker, 0, None, ()) for worker in range(len(net[0]))]
     while True:
-        box = [[state for worker, state, _, _ in rows if worker == one] for one in range(len(net[0]))]
+        box = [[state for other, state, _, _ in rows if other == one] for one in range(len(net[0]))]
         lots = shown_lots(net, box)
         further = []
         for worker, entry in enumerate(box):

@@ -33,7 +33,8 @@ def trees():
 def bound_names(tree):
     """Return the names that parameters, assignments and loops bind below a node."""
     names = [node.arg for node in ast.walk(tree) if isinstance(node, ast.arg)]
-    return names + [node.id for node in ast.walk(tree) if isinstance(node, ast.Name) and isinstance(node.ctx, ast.Store)]
+    return names + [node.id for node in ast.walk(tree)
+                    if isinstance(node, ast.Name) and isinstance(node.ctx, ast.Store)]
 
 
 def is_call_of(node, *names):

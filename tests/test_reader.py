@@ -104,7 +104,8 @@ class Nets(Reading):
     def test_bad_block_lines(self):
         for row in ("s: get b", "  u: get b", "  s: get c", "  s: got b", "  s: get", "  s get b", "  : get b",
                     "  s s: get b", "  s *: get b", "  * *: get b", "  s: get b b", "  S: get b", "  s:",
-                    "  s: go u", "  s: go", "  s: go s t", "  s: go: s", "  s,t: go s", "  s: get a:", "code b"):
+                    "  s", "  *", "  s t", "  s: go u", "  s: go", "  s: go s t", "  s: go: s", "  s,t: go s",
+                    "  s: get a:", "code b"):
             self.bad_with(6, row)
         for row in ("  p: go s", "p: go s", " p: go s", "    s: go s", "    p: go p", "    p q p: go s",
                     "    p: get", "  t: go s", "code b"):
@@ -278,10 +279,10 @@ class Claims(Reading):
                          ("and", ("not", ("again", 2, (0,))), ("again", 0, (0, 1))))
 
     def test_bad(self):
-        for text in ("a", "a=", "=s", "a=s=t", "a=u", "c=s", "a=s,", "a=,s", "a=s,s", "a=s,t,s", "a = s", "a= s", "a=s:",
-                     "and", "or a=s", ")", "()", "not )", "not and", "a=s a=t", "a=s not a=t", "a=s (a=t)", "a=s)",
-                     "(a=s))", "a=s and or a=t", "(a=s or)", "A=s", "a=S", "a=*", "*", "a=s,t;", ":", "a:s", "NOT a=s",
-                     "(a=s) a", "a=s or not or"):
+        for text in ("a", "a=", "=s", "a=s=t", "a=u", "c=s", "a=s,", "a=,s", "a=s,s", "a=s,t,s", "a = s", "a= s",
+                     "a=s:", "and", "or a=s", ")", "()", "not )", "not and", "a=s a=t", "a=s not a=t", "a=s (a=t)",
+                     "a=s)", "(a=s))", "a=s and or a=t", "(a=s or)", "A=s", "a=S", "a=*", "*", "a=s,t;", ":", "a:s",
+                     "NOT a=s", "(a=s) a", "a=s or not or", "(a=s a=t)", "(a=s not", "((a=s b) )"):
             self.bad_at(1, reader.read_claim, NAMES, text)
             self.bad_at(3, reader.read_claim, NAMES, "#\n\n" + text + "\n)")
 

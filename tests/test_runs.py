@@ -215,6 +215,22 @@ class Runs(unittest.TestCase):
         # What was shown by a deed that was undone cannot be read.
         self.refuses(run, NotShown, 1, run.step, 0, (1,))
 
+    def test_other_deeds_behind_an_undo(self):
+        rng = random.Random(43)
+        for net in random_nets(20, steady=True):
+            run = self.random_run(rng, net, 12)[0]
+            other = self.random_run(rng, net, 12)[0]
+            for many in range(12, 0, -1):
+                run.undo()
+                again = run.copied()
+                for deed in other.deeds():
+                    if first_fault(net, again.deeds() + [deed]) is None:
+                        run.do(deed)
+                        again.do(deed)
+                        self.assertEqual(all_of(run), all_of(run_with(net, again.deeds())))
+                while run.now() >= many:
+                    run.undo()
+
     def test_reading(self):
         run = run_with(EXAMPLE_NET, DEEDS)
         for odd in NO_INTEGERS:
