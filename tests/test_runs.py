@@ -258,6 +258,16 @@ class Runs(unittest.TestCase):
         given.clear()
         self.assertEqual(other.deeds(), DEEDS)
 
+    def test_what_is_passed_in_is_as_before(self):
+        deeds = list(DEEDS) + [("step", 0, ())]
+        kept = list(deeds)
+        for _ in range(2):
+            self.assertEqual(first_fault(EXAMPLE_NET, deeds), 4)
+            with self.assertRaises(NoMoment):
+                run_with(EXAMPLE_NET, deeds)
+            self.assertEqual(len(vectors_along(EXAMPLE_NET, deeds[:4])), 5)
+            self.assertEqual(deeds, kept)
+
     def test_copies_go_their_own_way(self):
         run = run_with(EXAMPLE_NET, DEEDS)
         other = run.copied()

@@ -1,5 +1,6 @@
 """Tests of the tables [36]."""
 
+import copy
 import random
 import unittest
 
@@ -163,6 +164,13 @@ class Tables(unittest.TestCase):
                     GROWTH[:3] + [(0, 1, 0, ())], [(False, 0, None, ())] + GROWTH[1:],
                     [(0, False, None, ())] + GROWTH[1:], [(0, 0, 0, ())] + GROWTH[1:]):
             self.assertIs(tables.is_growth(LATCH_NET, bad), False, bad)
+
+    def test_growth_that_is_passed_in_is_as_before(self):
+        for good, thing in ((True, list(GROWTH)), (False, GROWTH[:3] + [[0, 1, 0, [1]]])):
+            kept = copy.deepcopy(thing)
+            for _ in range(2):
+                self.assertIs(tables.is_growth(LATCH_NET, thing), good)
+                self.assertEqual(thing, kept)
 
     def test_growth_of_odd_values(self):
         for odd in odd_values():
