@@ -31,3 +31,20 @@ def least_subsets(members, is_right):
         if not any([has_all(some, small) for small in found]) and is_right(some):
             found.append(some)
     return sorted(found)
+
+
+def are_more(box, most):
+    """Tell whether more than most boxes lie in a box, or lots in lots."""
+    many = 1
+    for entry in box:
+        # Numbers are cut off where they say more already, so that they do not grow without end.
+        subsets = 1
+        for _ in entry:
+            subsets = min(2 * subsets, most + 2)
+        many = min(many * (subsets - 1), most + 1)
+    return many > most
+
+
+def boxes_in(box):
+    """Return the list of all boxes that lie in a box, or lots in lots."""
+    return all_choices([all_subsets(entry)[1:] for entry in box])

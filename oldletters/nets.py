@@ -68,6 +68,29 @@ def lies_in(one, other):
     return all([member in wide for entry, wide in zip(one, other) for member in entry])
 
 
+def size_of(box):
+    """Return how many members the entries of a box have together."""
+    return sum([len(entry) for entry in box])
+
+
+def least_of(boxes):
+    """Return the ascending list of those of the boxes in which no other one lies, each once."""
+    found = []
+    for box in sorted(boxes, key=size_of):
+        if not any([lies_in(less, box) for less in found]):
+            found.append(box)
+    return sorted(found)
+
+
+def greatest_of(boxes):
+    """Return the ascending list of those of the boxes that lie in no other one, each once."""
+    found = []
+    for box in sorted(boxes, key=size_of, reverse=True):
+        if not any([lies_in(box, more) for more in found]):
+            found.append(box)
+    return sorted(found)
+
+
 def with_member(members, index, member):
     """Return the tuple with another member at an index that it has."""
     return members[:index] + (member,) + members[index + 1:]

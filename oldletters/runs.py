@@ -28,9 +28,12 @@ class Run:
             raise Wrong(0)
         self._net = net
         self._deeds = []
-        # The state come to by each deed, and the state where each worker is now.
+        # The states of the worker of each deed before and behind it, and the state where each worker is now.
+        self._before = []
         self._come = []
         self._where = [0 for _ in net[0]]
+        # For each worker the moments at which it showed each letter.
+        self._moments = [{shown[0]: [0]} for _, shown, _ in net[0]]
 
     def __eq__(self, other):
         return isinstance(other, Run) and self._net == other._net and self._deeds == other._deeds
@@ -78,12 +81,13 @@ class Run:
         if not self._deeds:
             raise Nothing()
         deed = self._deeds.pop()
-        self._come.pop()
         worker = deed[1]
-        self._where[worker] = 0
-        for other, state in zip(self._deeds, self._come):
-            if other[1] == worker:
-                self._where[worker] = state
+        letter = self._net[0][worker][1][self._come.pop()]
+        self._where[worker] = self._before.pop()
+        moments = self._moments[worker]
+        moments[letter].pop()
+        if not moments[letter]:
+            moments.pop(letter)
         return deed
 
     def net(self):
@@ -104,23 +108,20 @@ class Run:
 
     def lots(self):
         """Return the lots of all letters shown so far."""
-        return tuple([tuple(sorted({letter for _, letter in self.shown(worker)}))
-                      for worker in range(len(self._net[0]))])
+        return tuple([tuple(sorted(moments)) for moments in self._moments])
 
     def shown(self, worker):
         """Return the ascending list of the tuples (moment, letter) of the showings of a worker."""
         check_integers([worker])
         check_worker(self._net, worker)
-        letters = self._net[0][worker][1]
-        later = [(moment, letters[state])
-                 for moment, (deed, state) in enumerate(zip(self._deeds, self._come), start=1)
-                 if deed[1] == worker]
-        return [(0, letters[0])] + later
+        moments = self._moments[worker]
+        return sorted([(moment, letter) for letter in moments for moment in moments[letter]])
 
     def latest(self, worker, letter):
         """Return the last moment at which a worker showed the letter, or None."""
         check_integers([worker, letter])
-        moments = [moment for moment, one in self.shown(worker) if one == letter]
+        check_worker(self._net, worker)
+        moments = self._moments[worker].get(letter, [])
         return moments[-1] if moments else None
 
     def can_come(self, worker):
@@ -139,9 +140,12 @@ class Run:
 
     def _note(self, deed, state):
         """Put a deed down, and the state to which its worker came."""
+        worker = deed[1]
         self._deeds.append(deed)
+        self._before.append(self._where[worker])
         self._come.append(state)
-        self._where[deed[1]] = state
+        self._where[worker] = state
+        self._moments[worker].setdefault(self._net[0][worker][1][state], []).append(len(self._deeds))
 
     def _state_by(self, code, moments):
         """Return the state to which a code comes by what was shown at these moments."""

@@ -63,12 +63,17 @@ def table_from(net, box, lots):
     return grown_box(net, begun, lots, lambda worker, state: True)
 
 
-def is_closed(net, box):
-    """Tell whether each entry of the box has 0, and no step by the lots shown in it leads out of it."""
+def stays_in(net, box):
+    """Tell whether no step from a state of the box, by the lots shown in it, leads out of it."""
     lots = shown_lots(net, box)
     results = [[state for before in entry for state in results_of(codes[before], lots)]
                for entry, (_, _, codes) in zip(box, net[0])]
-    return all([0 in entry for entry in box]) and lies_in(results, box)
+    return lies_in(results, box)
+
+
+def is_closed(net, box):
+    """Tell whether each entry of the box has 0, and no step by the lots shown in it leads out of it."""
+    return all([0 in entry for entry in box]) and stays_in(net, box)
 
 
 def growth_of(net):

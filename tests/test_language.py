@@ -47,7 +47,7 @@ def is_set(node):
 
 class Language(unittest.TestCase):
     def test_files(self):
-        self.assertGreaterEqual(len(FILES), 12)
+        self.assertGreaterEqual(len(FILES), 24)
         others = [path for path in PACKAGE.iterdir() if path.suffix != ".py" and path.name != "__pycache__"]
         self.assertEqual(others, [])
         for path in FILES:

@@ -9,7 +9,8 @@ from oldletters import nets
 from oldletters.errors import IsAsked, Last, NoLetter, NoState, NoWorker
 from oldletters.forms import is_box, is_lots, is_net
 from oldletters.texts import default_names, show_net
-from tests.samples import BIG_NET, LATCH_NET, SELF_NET, THREE_NET, odd_values, random_nets
+from tests.samples import (
+    BIG_NET, LATCH_NET, SELF_NET, THREE_NET, odd_values, plain_greatest, plain_least, random_lots, random_nets)
 
 NO_INDEX = [odd for odd in odd_values() if not (type(odd) is int and 0 <= odd < 3)] + [3, 4, "0", (0,), [0]]
 
@@ -51,6 +52,17 @@ class Nets(unittest.TestCase):
         self.assertIs(nets.lies_in(((0, 2),), ((0, 1, 2),)), True)
         self.assertIs(nets.lies_in(((0, 2),), ((0, 2),)), True)
         self.assertIs(nets.lies_in(((0, 2),), ((0, 1, 3),)), False)
+
+    def test_least_and_greatest_of_boxes(self):
+        rng = random.Random(35)
+        self.assertEqual((nets.least_of([]), nets.greatest_of([])), ([], []))
+        self.assertEqual(nets.size_of(((0, 2), (1,), (0, 1, 2))), 6)
+        for _ in range(60):
+            boxes = [random_lots(rng, (3, 2, 3)) for _ in range(rng.randint(1, 12))]
+            kept = list(boxes)
+            self.assertEqual(nets.least_of(boxes), sorted(set(plain_least(boxes))))
+            self.assertEqual(nets.greatest_of(boxes), sorted(set(plain_greatest(boxes))))
+            self.assertEqual(boxes, kept)
 
     def test_no_worker(self):
         for odd in NO_INDEX:

@@ -1,18 +1,12 @@
 """Tests of who has to take part [37]."""
 
-import itertools
 import unittest
 
 from oldletters import taking
 from oldletters.errors import IsSteady, NoState, NoWorker
-from tests.samples import LATCH_NET, THREE_NET, odd_values, plain_table, random_nets
+from tests.samples import LATCH_NET, THREE_NET, every_tuple, odd_values, plain_table, random_nets
 
 NETS = random_nets(70) + random_nets(30, most_workers=5, most_states=5, most_letters=4)
-
-
-def every_tuple(many):
-    """Return all ascending tuples of indexes below many."""
-    return [some for size in range(many + 1) for some in itertools.combinations(range(many), size)]
 
 
 class Taking(unittest.TestCase):

@@ -1,0 +1,95 @@
+"""Endless runs: a way, and a round that is done again and again [6], [48]."""
+
+from oldletters.codes import steps_of
+from oldletters.ends import is_end_by
+from oldletters.errors import NoEnd, NoRound
+from oldletters.knots import KnotMap, tour_to
+from oldletters.nets import shown_lots
+from oldletters.pieces import full_walk, inner_steps, walk_through, way_to
+from oldletters.runs import first_fault, run_with
+from oldletters.tables import state_along
+
+
+def endless_run(net, box, road):
+    """Return an endless run on such a road whose end is the box; raise NoEnd."""
+    knots = KnotMap(net)
+    if not is_end_by(knots, box, road):
+        raise NoEnd(box)
+    lots = shown_lots(net, box)
+    way = way_to_least(knots, box, lots)
+    steps = []
+    for worker, entry in enumerate(box):
+        if road == "just":
+            walk = full_walk(net, worker, entry, lots)
+        else:
+            walk = walk_through(net, worker, entry, lots)
+        steps.extend([(worker, answers) for _, answers in walk])
+    return (way, steps)
+
+
+def way_to_least(knots, box, lots):
+    """Return a run that shows all letters of the end, and behind which each worker is at the least of its states."""
+    net = knots.whole
+    tour = tour_to(knots, knots.fitting(box))
+    for worker, entry in enumerate(box):
+        least = entry[0]
+        here = tour.run.at()[worker]
+        if worker not in net[1]:
+            tour.visit(worker, least)
+        elif here != least:
+            # A steady worker cannot fall, but is within its piece already.
+            walk, _ = way_to(inner_steps(net, worker, entry, lots), here, {least: True})
+            for state in [before for before, _ in walk[1:]] + [least]:
+                tour.run.go_to(worker, state)
+    return tour.run.deeds()
+
+
+def round_rows(net, thing):
+    """Return for each round step a tuple (worker, before, answers, state); raise NoRound for what cannot be done."""
+    way, steps = thing
+    fault = first_fault(net, way)
+    if fault is not None:
+        raise NoRound(fault)
+    run = run_with(net, way)
+    where = list(run.at())
+    seen = [list(letters) for letters in run.lots()]
+    rows = []
+    for index, (worker, answers) in enumerate(steps, start=len(way)):
+        _, shown, codes = net[0][worker]
+        state = state_along(codes[where[worker]], answers, seen)
+        if state is None:
+            raise NoRound(index)
+        rows.append((worker, where[worker], answers, state))
+        where[worker] = state
+        seen[worker].append(shown[state])
+    return rows
+
+
+def end_of(net, thing):
+    """Return the end of an endless run; raise NoRound with the first place where it fails."""
+    way, steps = thing
+    rows = round_rows(net, thing)
+    workers = list(range(len(net[0])))
+    box = tuple([tuple(sorted({state for other, _, _, state in rows if other == worker})) for worker in workers])
+    lots = shown_lots(net, box)
+    for index, (worker, before, answers, _) in enumerate(rows, start=len(way)):
+        if state_along(net[0][worker][2][before], answers, lots) is None:
+            raise NoRound(index)
+    if not all([comes_round(rows, worker) for worker in workers]):
+        raise NoRound(len(way) + len(steps))
+    return box
+
+
+def comes_round(rows, worker):
+    """Tell whether a worker has rows, and is behind them where it was before them."""
+    own = [(before, state) for other, before, _, state in rows if other == worker]
+    return len(own) > 0 and own[0][0] == own[-1][1]
+
+
+def is_full(net, thing):
+    """Tell whether the round has each step, with each of its answers, by the lots shown in its end."""
+    box = end_of(net, thing)
+    lots = shown_lots(net, box)
+    done = {(worker, before, answers) for worker, before, answers, _ in round_rows(net, thing)}
+    return all([(worker, before, answers) in done for worker, entry in enumerate(box) for before in entry
+                for answers, _ in steps_of(net[0][worker][2][before], lots)])
