@@ -3,9 +3,9 @@
 from oldletters.codes import steps_of
 from oldletters.ends import is_end_by
 from oldletters.errors import NoEnd, NoRound
-from oldletters.knots import KnotMap, tour_to
+from oldletters.knots import KnotMap, free_workers, tour_to
 from oldletters.nets import shown_lots
-from oldletters.pieces import full_walk, inner_steps, walk_through, way_to
+from oldletters.pieces import full_walk, walk_through
 from oldletters.runs import first_fault, run_with
 from oldletters.tables import state_along
 
@@ -15,8 +15,11 @@ def endless_run(net, box, road):
     knots = KnotMap(net)
     if not is_end_by(knots, box, road):
         raise NoEnd(box)
+    # The least knot that an end fits has steady workers at the least states of their entries: within these, which are
+    # pieces, they could have gone there and shown nothing new.
+    tour = tour_to(knots, knots.fitting(box))
+    tour.gather(free_workers(net), [entry[0] for entry in box])
     lots = shown_lots(net, box)
-    way = way_to_least(knots, box, lots)
     steps = []
     for worker, entry in enumerate(box):
         if road == "just":
@@ -24,24 +27,7 @@ def endless_run(net, box, road):
         else:
             walk = walk_through(net, worker, entry, lots)
         steps.extend([(worker, answers) for _, answers in walk])
-    return (way, steps)
-
-
-def way_to_least(knots, box, lots):
-    """Return a run that shows all letters of the end, and behind which each worker is at the least of its states."""
-    net = knots.whole
-    tour = tour_to(knots, knots.fitting(box))
-    for worker, entry in enumerate(box):
-        least = entry[0]
-        here = tour.run.at()[worker]
-        if worker not in net[1]:
-            tour.visit(worker, least)
-        elif here != least:
-            # A steady worker cannot fall, but is within its piece already.
-            walk, _ = way_to(inner_steps(net, worker, entry, lots), here, {least: True})
-            for state in [before for before, _ in walk[1:]] + [least]:
-                tour.run.go_to(worker, state)
-    return tour.run.deeds()
+    return (tour.run.deeds(), steps)
 
 
 def round_rows(net, thing):

@@ -107,6 +107,16 @@ class Claims(unittest.TestCase):
         self.assertIs(claims.surely_holds(net, ("and", one, other), "just"), True)
         self.assertIsNone(claims.end_with(net, ("and", one, ("not", one)), "lossy"))
 
+    def test_several_claims_that_are_not_to_hold(self):
+        reads = ("get", 1, (("go", 0), ("go", 1), ("go", 2)))
+        net = (((1, (0, 0, 0), (reads,) * 3), talking(3)), ())
+        one, other = ("again", 0, (1,)), ("again", 0, (2,))
+        lacking = ("and", ("not", one), ("not", other))
+        self.assertEqual(claims.end_with(net, lacking, "lossy"), ((0,), (0, 1, 2)))
+        self.assertEqual(claims.end_without(net, ("or", one, other), "lossy"), ((0,), (0, 1, 2)))
+        self.assertIs(claims.can_hold(net, ("and", lacking, ("not", ("again", 0, (0,)))), "lossy"), False)
+        self.assertIs(claims.surely_holds(net, ("not", lacking), "just"), True)
+
     def test_larger_nets(self):
         rng = random.Random(54)
         for _ in range(40):

@@ -165,6 +165,14 @@ class Trees(unittest.TestCase):
         self.assertIs(trees.is_tree(down, ((0, 1),), ("branch", 0, ((0,), (1,)), (LEAF,))), True)
         self.assertIs(trees.is_tree(down, ((0, 1),), ("branch", 0, ((1,), (0,)), (LEAF,))), False)
 
+    def test_branch_of_a_worker_that_is_one_piece(self):
+        net = (((1, (0, 0), (("go", 1), ("go", 0))), (1, (0, 0), (("go", 0), ("go", 1)))), ())
+        box = ((0, 1), (0, 1))
+        right = ("branch", 1, ((0,), (1,)), (LEAF, LEAF))
+        self.assertIs(trees.is_tree(net, box, right), True)
+        self.assertIs(trees.is_tree(net, box, ("branch", 0, ((0, 1),), (right,))), False)
+        self.assertIs(trees.is_tree(net, box, ("branch", 0, ((0,), (1,)), (right, right))), False)
+
     def test_branch_with_no_trees(self):
         away = (((1, (0, 0), (("go", 1), ("go", 0))),), ())
         tree = ("branch", 0, ((1,),), ())
