@@ -92,7 +92,11 @@ def end_with(net, claim, road):
     if road == "just":
         ends = [end for end in just_ends(net) if claim_holds(claim, end)]
         return ends[0] if ends else None
-    knots = KnotMap(net)
+    return lossy_end_with(KnotMap(net), claim)
+
+
+def lossy_end_with(knots, claim):
+    """Return an end on lossy roads at which the claim holds, or None; knots is the KnotMap of the net."""
     return end_in(knots.ever(), claim, lambda box: widest_by(knots, box))
 
 
@@ -109,3 +113,11 @@ def can_hold(net, claim, road):
 def surely_holds(net, claim, road):
     """Tell whether the claim holds at all ends on such a road; raise TooMany on just roads."""
     return end_without(net, claim, road) is None
+
+
+def all_holding(net, claims):
+    """Return a tuple that tells for each of the claims whether it holds at all ends on lossy roads."""
+    if not claims:
+        return ()
+    knots = KnotMap(net)
+    return tuple([lossy_end_with(knots, ("not", claim)) is None for claim in claims])

@@ -26,14 +26,24 @@ def check_lots(lots):
         raise TooMany(MOST)
 
 
-def just_entries(net, worker, lots):
-    """Return the list of the pieces of a worker by the lots that show just its letters of lots, and that no step
-    by the lots leaves."""
+def just_entries(net, worker, states, lots):
+    """Return the list of the pieces among the states of a worker by the lots that show just its letters of lots, and
+    that no step by the lots to one of the states leaves."""
     shown = net[0][worker][1]
-    edges = edges_of(net, worker, all_states(net)[worker], lots)
+    edges = edges_of(net, worker, states, lots)
     return [piece for piece in pieces_by(edges)
             if tuple(sorted({shown[state] for state in piece})) == lots[worker]
             and all([state in piece for before in piece for state in edges[before]])]
+
+
+def just_choices(net, workers, box, lots):
+    """Return the list of all tuples with such a piece for each of the workers, among its states of the box."""
+    rows = []
+    for worker in workers:
+        rows.append(just_entries(net, worker, box[worker], lots))
+        if not rows[-1]:
+            return []
+    return all_choices(rows)
 
 
 def just_ends(net):
@@ -41,10 +51,11 @@ def just_ends(net):
     knots = KnotMap(net)
     wide = shown_lots(net, knots.ever())
     check_lots(wide)
+    workers = list(range(len(net[0])))
+    states = all_states(net)
     found = []
     for lots in boxes_in(wide):
-        rows = [just_entries(net, worker, lots) for worker in range(len(net[0]))]
-        found.extend([box for box in all_choices(rows) if knots.fitting(box) is not None])
+        found.extend([box for box in just_choices(net, workers, states, lots) if knots.fitting(box) is not None])
         if len(found) > MOST:
             raise TooMany(MOST)
     return sorted(found)

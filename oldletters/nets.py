@@ -53,9 +53,14 @@ def all_states(net):
     return tuple([tuple(range(len(shown))) for _, shown, _ in net[0]])
 
 
+def letters_in(workers):
+    """Return the tuple of the numbers of letters of these workers."""
+    return tuple([letters for letters, _, _ in workers])
+
+
 def all_lots(net):
     """Return the lots of all letters."""
-    return full_lots([letters for letters, _, _ in net[0]])
+    return full_lots(letters_in(net[0]))
 
 
 def shown_lots(net, box):

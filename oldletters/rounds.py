@@ -19,6 +19,11 @@ def endless_run(net, box, road):
     # pieces, they could have gone there and shown nothing new.
     tour = tour_to(knots, knots.fitting(box))
     tour.gather(free_workers(net), [entry[0] for entry in box])
+    return (tour.run.deeds(), round_through(net, box, road))
+
+
+def round_through(net, box, road):
+    """Return a round through an end on such a road, that begins with each worker at the least state of its entry."""
     lots = shown_lots(net, box)
     steps = []
     for worker, entry in enumerate(box):
@@ -27,20 +32,19 @@ def endless_run(net, box, road):
         else:
             walk = walk_through(net, worker, entry, lots)
         steps.extend([(worker, answers) for _, answers in walk])
-    return (tour.run.deeds(), steps)
+    return steps
 
 
-def round_rows(net, thing):
-    """Return for each round step a tuple (worker, before, answers, state); raise NoRound for what cannot be done."""
-    way, steps = thing
-    fault = first_fault(net, way)
-    if fault is not None:
-        raise NoRound(fault)
-    run = run_with(net, way)
-    where = list(run.at())
-    seen = [list(letters) for letters in run.lots()]
+def round_rows(net, where, seen, steps, first):
+    """Return for each round step a tuple (worker, before, answers, state); raise NoRound for what cannot be done.
+
+    where has the state of each worker before the round, seen the letters that each has shown; first is the index that
+    NoRound has for the first round step.
+    """
+    where = list(where)
+    seen = [list(letters) for letters in seen]
     rows = []
-    for index, (worker, answers) in enumerate(steps, start=len(way)):
+    for index, (worker, answers) in enumerate(steps, start=first):
         _, shown, codes = net[0][worker]
         state = state_along(codes[where[worker]], answers, seen)
         if state is None:
@@ -51,19 +55,32 @@ def round_rows(net, thing):
     return rows
 
 
-def end_of(net, thing):
-    """Return the end of an endless run; raise NoRound with the first place where it fails."""
-    way, steps = thing
-    rows = round_rows(net, thing)
+def end_by_rows(net, rows, first):
+    """Return the end of a round with these rows; raise NoRound, first being as in round_rows."""
     workers = list(range(len(net[0])))
     box = tuple([tuple(sorted({state for other, _, _, state in rows if other == worker})) for worker in workers])
     lots = shown_lots(net, box)
-    for index, (worker, before, answers, _) in enumerate(rows, start=len(way)):
+    for index, (worker, before, answers, _) in enumerate(rows, start=first):
         if state_along(net[0][worker][2][before], answers, lots) is None:
             raise NoRound(index)
     if not all([comes_round(rows, worker) for worker in workers]):
-        raise NoRound(len(way) + len(steps))
+        raise NoRound(first + len(rows))
     return box
+
+
+def rows_behind(net, thing):
+    """Return the rows of the round of an endless run; raise NoRound for what cannot be done."""
+    way, steps = thing
+    fault = first_fault(net, way)
+    if fault is not None:
+        raise NoRound(fault)
+    run = run_with(net, way)
+    return round_rows(net, run.at(), run.lots(), steps, len(way))
+
+
+def end_of(net, thing):
+    """Return the end of an endless run; raise NoRound with the first place where it fails."""
+    return end_by_rows(net, rows_behind(net, thing), len(thing[0]))
 
 
 def comes_round(rows, worker):
@@ -76,6 +93,6 @@ def is_full(net, thing):
     """Tell whether the round has each step, with each of its answers, by the lots shown in its end."""
     box = end_of(net, thing)
     lots = shown_lots(net, box)
-    done = {(worker, before, answers) for worker, before, answers, _ in round_rows(net, thing)}
+    done = {(worker, before, answers) for worker, before, answers, _ in rows_behind(net, thing)}
     return all([(worker, before, answers) in done for worker, entry in enumerate(box) for before in entry
                 for answers, _ in steps_of(net[0][worker][2][before], lots)])
