@@ -127,3 +127,25 @@ def all_pairs(foreign):
     """Return all (ever, again), ascending."""
     evers = list(itertools.product(*[every_entry(letters) for letters in foreign]))
     return sorted((ever, again) for ever in evers for again in evers if lot_lies_in(again, ever))
+
+
+def maximal(lots):
+    """Return the ascending tuple of those of the lots that lie in no other one."""
+    return tuple(sorted(lot for lot in set(lots) if not any(lot != more and lot_lies_in(lot, more) for more in lots)))
+
+
+def drawn_rows(rng, foreign, letters):
+    """Return rows by form that rise; often there is no nested choice for some ever."""
+    own = {}
+    rows = []
+    more = rng.choice((0, 0.1, 0.3))
+    for ever, again in sorted(all_pairs(foreign), key=lambda pair: sum(map(len, pair[0] + pair[1]))):
+        own[(ever, again)] = [(entry,) for entry in every_entry(letters) if rng.random() < more]
+        lots = [lot for (less, fewer), some in own.items() for lot in some
+                if lot_lies_in(less, ever) and lot_lies_in(fewer, again)]
+        if not lots:
+            lots = own[(ever, again)] = [(rng.choice(every_entry(letters)[:letters + 1]),)]
+        rows.append((ever, again, maximal(lots)))
+    haves = {ever: {0}.union(*[lot[0] for less, _, lots in rows if lot_lies_in(less, ever) for lot in lots])
+             for ever, _, _ in rows}
+    return sorted((ever, again, (tuple(sorted(haves[ever])),), lots) for ever, again, lots in rows)

@@ -47,7 +47,7 @@ def is_set(node):
 
 class Language(unittest.TestCase):
     def test_files(self):
-        self.assertGreaterEqual(len(FILES), 24)
+        self.assertGreaterEqual(len(FILES), 35)
         others = [path for path in PACKAGE.iterdir() if path.suffix != ".py" and path.name != "__pycache__"]
         self.assertEqual(others, [])
         for path in FILES:
@@ -115,7 +115,8 @@ class Language(unittest.TestCase):
                 inner = bound_names(node) if isinstance(node, (ast.FunctionDef, ast.ClassDef)) else []
                 self.assertFalse(set(inner) & set(outer), (path, set(inner) & set(outer)))
                 for name in inner + outer:
-                    self.assertFalse(hasattr(builtins, name) or name in BARRED, (path, name))
+                    # Doctests leave a builtin called _.
+                    self.assertFalse(name != "_" and hasattr(builtins, name) or name in BARRED, (path, name))
                     self.assertNotRegex(name, r"^__|^_wall|^_pe_|^_dcw_|^_enum_|^_cm_|^_lay_|^_law_|^_stub_|^_sre")
             for node in ast.walk(tree):
                 if isinstance(node, ast.Name) and isinstance(node.ctx, ast.Load):

@@ -8,7 +8,7 @@ import unittest
 from oldletters.borders import rows_of
 from oldletters.nested import (
     are_rows, choice_for, is_choice_for, is_refusal_for, is_rows, refusal_for, rows_fault)
-from tests.part_samples import FORMS, all_pairs, lively_parts, lot_lies_in, random_parts
+from tests.part_samples import FORMS, all_pairs, drawn_rows, lively_parts, lot_lies_in, random_parts
 from tests.samples import doubtful_kinds, every_entry, exchanged, odd_values, spoil, wrong_kinds
 
 ONE, TWO, BOTH = ((0,),), ((1,),), ((0, 1),)
@@ -24,28 +24,6 @@ def with_row(rows, at, row):
 
 
 REFUSED = with_row(ROWS, 2, (BOTH, BOTH, BOTH, (ONE, TWO)))
-
-
-def maximal(lots):
-    """Return the ascending tuple of those of the lots that lie in no other one."""
-    return tuple(sorted(lot for lot in set(lots) if not any(lot != more and lot_lies_in(lot, more) for more in lots)))
-
-
-def drawn_rows(rng, foreign, letters):
-    """Return rows by form that rise; often there is no nested choice for some ever."""
-    own = {}
-    rows = []
-    more = rng.choice((0, 0.1, 0.3))
-    for ever, again in sorted(all_pairs(foreign), key=lambda pair: sum(map(len, pair[0] + pair[1]))):
-        own[(ever, again)] = [(entry,) for entry in every_entry(letters) if rng.random() < more]
-        lots = [lot for (less, fewer), some in own.items() for lot in some
-                if lot_lies_in(less, ever) and lot_lies_in(fewer, again)]
-        if not lots:
-            lots = own[(ever, again)] = [(rng.choice(every_entry(letters)[:letters + 1]),)]
-        rows.append((ever, again, maximal(lots)))
-    haves = {ever: {0}.union(*[lot[0] for less, _, lots in rows if lot_lies_in(less, ever) for lot in lots])
-             for ever, _, _ in rows}
-    return sorted((ever, again, (tuple(sorted(haves[ever])),), lots) for ever, again, lots in rows)
 
 
 def moves(again):
