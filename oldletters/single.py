@@ -65,7 +65,7 @@ class Maker:
     def made(self):
         """Return the worker."""
         self.put_state(("begin",), self.common, self.taking((), lambda taken: (
-            "gather", tuple([(letter,) for letter in taken]))))
+            "gather", tuple([(first,) for first in taken]))))
         for ever in self.have:
             self.add_first_states(ever)
             for index in range(len(self.rings[ever])):
